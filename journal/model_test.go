@@ -161,7 +161,9 @@ func recoverWrites(image []string) []api.Page {
 		copies = append(copies, image[p.copies[i]])
 		writes = append(writes, api.Page{At: at, Data: copies[i]})
 	}
-	if head != headFor(image[2:2+(count+127)/128], copies) {
+	used := image[2 : 2+(count+127)/128]
+	rest := strings.Join(used, "")[2*count:]
+	if strings.Trim(rest, "\x00") != "" || head != headFor(used, copies) {
 		return nil
 	}
 	return append(writes, api.Page{At: 1, Data: zeros})

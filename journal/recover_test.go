@@ -211,6 +211,54 @@ func TestListTells(t *testing.T) {
 	}
 }
 
+// TestListRest: behind the numbers the list has bytes 0 alone; another byte there, and it tells nothing, be the sum that of the blocks as they lie or that of the right list (P10.3).
+func TestListRest(t *testing.T) {
+	r := rand.New(rand.NewSource(18))
+	for _, c := range [][2]int{{64, 1}, {64, 2}, {64, 31}, {520, 127}, {520, 128}, {520, 129}, {520, 200}, {2048, 255}, {2048, 257}, {2048, 1019}} {
+		n, count := c[0], c[1]
+		p := placeOf(n)
+		good := written(r, n, numbersOf(drawnGroup(r, n, count)))
+		if recovers(t, "bytes 0 behind the numbers", good) != count {
+			t.Fatalf("disk of %d, %d pages: not taken", n, count)
+		}
+		last := p.list[(count+127)/128-1]
+		for i := 2*count - 256*(last-2); i < 256; i++ {
+			b := []byte(good[last])
+			b[i] = []byte{1, 34, 128, 255}[r.Intn(4)]
+			bad := slices.Clone(good)
+			bad[last] = string(b)
+			if recovers(t, "the sum of the right list", bad) != 0 {
+				t.Errorf("disk of %d, %d pages: byte %d of block %d doesn't count", n, count, i, last)
+			}
+			bad[1] = headFor(bad[2:last+1], bad[p.copies[0]:p.copies[0]+count])
+			if recovers(t, "the sum of the list as it lies", bad) != 0 {
+				t.Errorf("disk of %d, %d pages: byte %d of block %d may be another than 0", n, count, i, last)
+			}
+		}
+	}
+}
+
+// TestListRestAtHand: one page's number and a byte behind it, the sum reckoned of the block as it lies and of the right list (P10.3).
+func TestListRestAtHand(t *testing.T) {
+	for _, c := range []struct {
+		sum, list string
+		want      int
+	}{
+		{"\xbd\xde\x00\x9b", "\x00\x22", 1},
+		{"\xbd\xde\x00\x9b", "\x00\x22\x01", 0},
+		{"\xbf\xdc\x00\x9c", "\x00\x22\x01", 0},
+		{"\xbf\xdc\x00\x9c", "\x00\x22", 0},
+	} {
+		image := slices.Repeat([]string{zeros}, 64)
+		for i, s := range []string{"jrnl\x00\x01" + c.sum, c.list, "x"} {
+			image[i+1] = s + zeros[len(s):]
+		}
+		if got := recovers(t, "at hand", image); got != c.want {
+			t.Errorf("sum %q, list %q: %d, want %d", c.sum, c.list, got, c.want)
+		}
+	}
+}
+
 // TestHeadTells: a head of none, or of more copies than there is room for, is none, even if its sum is right (P10.3).
 func TestHeadTells(t *testing.T) {
 	r := rand.New(rand.NewSource(10))
