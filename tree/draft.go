@@ -4,6 +4,7 @@ import (
 	"maps"
 	"slices"
 
+	"aumbry/need"
 	"aumbry/space"
 )
 
@@ -39,6 +40,6 @@ func (d *draft) write() {
 		write(d.space, at, d.pages[at])
 	}
 	for _, at := range d.unused {
-		need(d.space.Release(at))
+		need.OK(d.space.Release(at))
 	}
 }

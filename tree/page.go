@@ -3,6 +3,7 @@ package tree
 import (
 	"aumbry/api"
 	"aumbry/leaf"
+	"aumbry/need"
 	"aumbry/num"
 	"aumbry/space"
 )
@@ -18,20 +19,16 @@ type page struct {
 }
 
 func read(s *space.Space, at int) page {
-	data, e := s.Get(at)
-	need(e)
-	kind, list, e := leaf.Unpack(data)
-	need(e)
+	kind, list, e := leaf.Unpack(need.Of(s.Get(at)))
+	need.OK(e)
 	if kind == leaf.Branch && len(list) == 0 {
-		need(api.ErrForm)
+		need.OK(api.ErrForm)
 	}
 	return page{kind: kind, list: list}
 }
 
 func write(s *space.Space, at int, p page) {
-	data, e := leaf.Pack(p.kind, p.list)
-	need(e)
-	need(s.Put(at, data))
+	need.OK(s.Put(at, need.Of(leaf.Pack(p.kind, p.list))))
 }
 
 // toward answers the place of a branch's entry below which a key belongs. List alone asks for keys below the first entry's.
@@ -45,16 +42,12 @@ func (p page) toward(key string) int {
 
 // below answers the number of the page that a branch's entry names.
 func below(x api.Entry) int {
-	at, e := num.Get(x.Value, 0, numberWidth)
-	need(e)
-	return int(at)
+	return int(need.Of(num.Get(x.Value, 0, numberWidth)))
 }
 
 // naming answers the entry by which a branch names a page, none of whose keys is below key.
 func naming(key string, at int) api.Entry {
-	value, e := num.Put(uint64(at), numberWidth)
-	need(e)
-	return api.Entry{Key: key, Value: value}
+	return api.Entry{Key: key, Value: need.Of(num.Put(uint64(at), numberWidth))}
 }
 
 func fits(list []api.Entry) bool { return leaf.Size(list) <= api.BlockSize }

@@ -3,6 +3,7 @@ package tree
 import (
 	"aumbry/api"
 	"aumbry/leaf"
+	"aumbry/need"
 )
 
 // put does what Put promises.
@@ -40,8 +41,7 @@ func (d *draft) lay(at int, p page) (api.Entry, bool) {
 
 // add takes a page for p, and answers the entry that names it. All that a Put reads has been read by then.
 func (d *draft) add(key string, p page) api.Entry {
-	at, e := d.space.Alloc()
-	need(e)
+	at := need.Of(d.space.Alloc())
 	d.pages[at] = p
 	return naming(key, at)
 }
