@@ -763,17 +763,22 @@ func TestAnyCells(t *testing.T) {
 	}
 }
 
-// span is where something lies in memory, its spare room included.
-type span struct{ from, to uintptr }
+// span is where something lies in memory, its spare room included. As long as the span is there that isn't used again, for another answer perhaps.
+type span struct {
+	from, to uintptr
+	kept     unsafe.Pointer
+}
+
+func spanAt(kept unsafe.Pointer, size uintptr) span {
+	return span{uintptr(kept), uintptr(kept) + size, kept}
+}
 
 func textSpan(s string) span {
-	from := uintptr(unsafe.Pointer(unsafe.StringData(s)))
-	return span{from, from + uintptr(len(s))}
+	return spanAt(unsafe.Pointer(unsafe.StringData(s)), uintptr(len(s)))
 }
 
 func termSpans(t api.Term) []span {
-	from := uintptr(unsafe.Pointer(unsafe.SliceData(t)))
-	l := []span{{from, from + uintptr(cap(t))*unsafe.Sizeof(api.Cell{})}}
+	l := []span{spanAt(unsafe.Pointer(unsafe.SliceData(t)), uintptr(cap(t))*unsafe.Sizeof(api.Cell{}))}
 	for _, c := range t {
 		l = append(l, textSpan(c.Name))
 	}

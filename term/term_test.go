@@ -589,18 +589,23 @@ func TestManyKids(t *testing.T) {
 	}
 }
 
-// span is where something lies in memory, its spare room included.
-type span struct{ from, to uintptr }
+// span is where something lies in memory, its spare room included. As long as the span is there that isn't used again, for another answer perhaps.
+type span struct {
+	from, to uintptr
+	kept     unsafe.Pointer
+}
+
+func spanAt(kept unsafe.Pointer, size uintptr) span {
+	return span{uintptr(kept), uintptr(kept) + size, kept}
+}
 
 func textSpan(s string) span {
-	from := uintptr(unsafe.Pointer(unsafe.StringData(s)))
-	return span{from, from + uintptr(len(s))}
+	return spanAt(unsafe.Pointer(unsafe.StringData(s)), uintptr(len(s)))
 }
 
 func listSpan[T any](l []T) span {
 	var one T
-	from := uintptr(unsafe.Pointer(unsafe.SliceData(l)))
-	return span{from, from + uintptr(cap(l))*unsafe.Sizeof(one)}
+	return spanAt(unsafe.Pointer(unsafe.SliceData(l)), uintptr(cap(l))*unsafe.Sizeof(one))
 }
 
 func termSpans(t api.Term) []span {
