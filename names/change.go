@@ -1,6 +1,7 @@
 package names
 
 import (
+	"aumbry/ahead"
 	"aumbry/api"
 	"aumbry/name"
 	"aumbry/need"
@@ -9,7 +10,7 @@ import (
 	"aumbry/tree"
 )
 
-// A change of several parts has read all that its later parts read ahead of the first one. So what can't be read is met while nothing has changed; and what was read once can be read again, also with the power off.
+// A change of several parts has read all that its later parts read ahead of the first one, and looked at what they would meet. So what can't be read or done is met while nothing has changed; and what was read once can be read again, also with the power off.
 
 // create does what New promises.
 func create(s *space.Space) (symbols, terms int) {
@@ -47,7 +48,7 @@ func (n *Names) set(word string, t api.Term) {
 		need.OK(api.ErrMany)
 	}
 	if is {
-		n.foresee(old)
+		need.OK(ahead.At(n.refs).Drop(old))
 	}
 	at := need.Of(n.refs.Keep(t))
 	need.OK(n.terms.Put(word, writeAddr(at)))
@@ -62,25 +63,10 @@ func (n *Names) forget(word string) bool {
 	if !is {
 		return false
 	}
-	n.foresee(at)
+	need.OK(ahead.At(n.refs).Drop(at))
 	need.Of(n.terms.Delete(word))
 	need.OK(n.refs.Drop(at))
 	return true
-}
-
-// foresee gives up where a Drop would, and reads what that reads.
-func (n *Names) foresee(at api.Addr) {
-	x, found, e := n.refs.Nodes().Get(at)
-	need.OK(e)
-	if !found {
-		need.OK(api.ErrNone)
-	}
-	if x.Count == 0 {
-		need.OK(api.ErrRange)
-	}
-	// It releases nothing, but reads the list of what waits.
-	_, _, e = n.refs.Reclaim(0)
-	need.OK(e)
 }
 
 // needSymbol gives up, unless word is a symbol's name.
